@@ -15,6 +15,14 @@ INTERFACE = {
     ),
     "marks.py": ("is_mark", "is_clause"),
     "shows.py": ("is_shown",),
+    "follower.py": ("Follower",),
+    "counts.py": ("how_many", "choices"),
+    "plans.py": ("is_part", "is_plan", "size_of", "show_plan", "read_plan"),
+    "words.py": ("part_for", "plan_for"),
+}
+
+METHODS = {
+    "Follower": ("put", "add", "back", "on", "shown", "puts", "is_broken", "clauses"),
 }
 
 
@@ -40,6 +48,15 @@ class TestLayout(unittest.TestCase):
             tree = ast.parse(text_of(name))
             there = [node.name for node in tree.body if isinstance(node, (ast.FunctionDef, ast.ClassDef))]
             self.assertLessEqual(set(wanted), set(there), name)
+
+    def test_methods_are_defined_in_their_classes(self):
+        found = {}
+        for name in files():
+            for node in ast.parse(text_of(name)).body:
+                if isinstance(node, ast.ClassDef):
+                    found[node.name] = {one.name for one in node.body if isinstance(one, ast.FunctionDef)}
+        for name, wanted in METHODS.items():
+            self.assertLessEqual(set(wanted), found[name], name)
 
     def test_signs_and_sizes(self):
         for name in files():
