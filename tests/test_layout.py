@@ -19,10 +19,16 @@ INTERFACE = {
     "counts.py": ("how_many", "choices"),
     "plans.py": ("is_part", "is_plan", "size_of", "show_plan", "read_plan"),
     "words.py": ("part_for", "plan_for"),
+    "knots.py": ("sums_knot", "net_knot", "pairs_knot", "codes_knot", "sizes"),
+    "said.py": ("Said",),
+    "looks.py": ("is_knot", "first_wrong"),
 }
 
 METHODS = {
     "Follower": ("put", "add", "back", "on", "shown", "puts", "is_broken", "clauses"),
+    "Said": (
+        "marks", "most", "plan", "clauses", "knots", "names", "kept", "broken", "follows", "__eq__", "__len__", "__str__",
+    ),
 }
 
 
