@@ -115,6 +115,7 @@ def _wrong_counts(knot, most, is_last):
     for counts in _all_counts(rows):
         total = sum(counts)
         on = [mark for row, count in zip(rows, counts) for mark in row[:count]]
+        # This comes first: where all clauses hold and the outs count rightly, what is put further on breaks nothing.
         if not _holds(knot, on, total, most, is_last):
             return ("holds", counts)
         if not _is_up(knot, follower, on, total, most, is_last):
@@ -163,7 +164,7 @@ def _is_up(knot, follower, on, total, most, is_last):
     now = _after(follower, on)
     if is_last:
         return now is None
-    return now is not None and all([out in now for out in outs[:total]])
+    return all([out in now for out in outs[:total]])
 
 
 def _is_down(knot, follower, on, counts, most, is_last):
@@ -176,11 +177,9 @@ def _is_down(knot, follower, on, counts, most, is_last):
             return True
     elif total >= len(outs):
         return True
-    elif -outs[total] not in puts:
+    else:
         puts.append(-outs[total])
     now = _after(follower, puts)
-    if now is None:
-        return False
     return all([-row[count] in now for row, count in zip(rows, counts) if count < len(row)])
 
 
