@@ -2,8 +2,6 @@
 
 import itertools
 
-MOST_ONES = 60
-
 
 def small_parts(many):
     """Parts of so many ones: those of sums of ones, of two parts and of nets, and some of one part alone."""

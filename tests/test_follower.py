@@ -6,21 +6,13 @@ import unittest
 from mostclauses.errors import IsBroken, IsPut, NoPut, NotOn
 from mostclauses.follower import Follower
 from mostclauses.shows import is_shown
+from tellings import all_on
 
 
-def all_on(clauses, puts):
-    """All that is on by these puts, said over again from [5], None where it is broken."""
-    state = dict.fromkeys(puts)
-    while True:
-        before = len(state)
-        for clause in clauses:
-            left = [mark for mark in clause if -mark not in state]
-            if not left:
-                return None
-            if len(left) == 1:
-                state[left[0]] = None
-        if len(state) == before:
-            return sorted(state, key=abs)
+def rising_on(clauses, puts):
+    """The rising list of all that is on by these puts, None where it is broken."""
+    on = all_on(clauses, puts)
+    return None if on is None else sorted(on, key=abs)
 
 
 class Told(unittest.TestCase):
@@ -34,7 +26,7 @@ class Told(unittest.TestCase):
 
     def is_as_told(self, follower, clauses, puts, marks):
         """That all it tells is as these clauses and puts tell, of each of these marks, too."""
-        on = all_on(clauses, puts)
+        on = rising_on(clauses, puts)
         self.assertEqual(follower.clauses(), clauses)
         self.assertEqual(follower.puts(), puts)
         self.assertIs(follower.is_broken(), on is None)
@@ -397,7 +389,7 @@ class TestHistories(Told):
         puts = []
         follower = Follower(clauses)
         for _ in range(many):
-            before = all_on(clauses, puts)
+            before = rising_on(clauses, puts)
             self.is_as_told(follower, clauses, puts, marks)
             deed = chance.choice(("put", "put", "put", "add", "back"))
             if deed == "back" or before is None:
@@ -415,10 +407,10 @@ class TestHistories(Told):
                     self.assertEqual(caught.exception.name, abs(mark))
                 else:
                     puts.append(mark)
-                    self.is_news(follower.put(mark), before + [mark], all_on(clauses, puts))
+                    self.is_news(follower.put(mark), before + [mark], rising_on(clauses, puts))
             else:
                 clauses = clauses + [clause()]
-                self.is_news(follower.add(clauses[-1]), before, all_on(clauses, puts))
+                self.is_news(follower.add(clauses[-1]), before, rising_on(clauses, puts))
 
     def is_news(self, told, before, now):
         if now is None:

@@ -432,21 +432,16 @@ class TestRefused(unittest.TestCase):
             self.assertEqual(told, None if many <= 8 else 2 ** many)
 
     def test_256_at_the_most(self):
-        for lens in ((255,), (256,), (127, 1), (128, 1), (15, 15), (16, 15), (3, 3, 3, 3), (4, 3, 3, 3), (1,) * 8, (1,) * 9):
-            names = itertools.count(1000)
-            marks = list(range(1, sum(lens) + 1))
-            rows = [tuple(itertools.islice(names, length)) for length in lens]
-            # The rows are outs of knots; those have the marks of each by themselves, and as many counts at the most.
-            knot = (tuple(rows), (), (), ())
+        for lens in ((7, 7, 3), (3, 3, 3, 3), (1,) * 8, (7, 7, 1, 1), (8, 8, 2), (4, 3, 3, 3), (1,) * 9, (5, 5, 6), (2, 2, 2, 2, 2)):
+            # Each row of more than one mark is the outs of a knot of its own.
+            names, knots, rows = itertools.count(1), [], []
+            for length in lens:
+                row = [(next(names),) for _ in range(length)]
+                knots += [sums_knot(row, 60, 100 * (len(knots) + 1))] * (length > 1)
+                rows.append(knots[-1][3] if length > 1 else row[0])
+            marks = list(range(1, next(names)))
             many = math.prod(length + 1 for length in lens)
-            self.assertEqual(many_counts(knot), many)
-            if max(lens) <= 8:
-                knots, left = [], list(marks)
-                for row in rows:
-                    mine = [left.pop(0) for _ in row]
-                    knots.append(sums_knot([(mark,) for mark in mine], 60, row[0]))
-                told = what_is_told(marks, 59, knots + [knot])
-                self.assertEqual(told, None if many <= 256 else many)
+            self.assertEqual(what_is_told(marks, 59, knots + [bare(*rows)]), None if many <= 256 else many)
 
     def test_behind_built(self):
         rows = [(name,) for name in range(1, 61)]
