@@ -206,6 +206,12 @@ class TestBuilt(unittest.TestCase):
         self.wrong(2, [1, 2, 5], 1, KNOT, sums_knot([(5,), (3, 4)], 2, 6), bare((6, 7), (3, 4)))
         self.wrong(1, [1, 2, 5], 1, KNOT, sums_knot([(5,), (2,)], 2, 6), bare((6, 7), (3, 4)))
 
+    def test_two_marks_of_one_name(self):
+        # Of marks of unlike names none comes to this: outs that would have one name twice don't count rightly.
+        self.wrong(0, [1, -1], 0, (((1,), (-1,)), (), ((1,), (-1,)), ()))
+        self.assertEqual(first_wrong([1, 2], 1, [KNOT[:3] + ((3, 3),), bare((3, 3))]), (0, "holds", (0, 1)))
+        self.assertEqual(first_wrong([1, 2], 1, [KNOT[:3] + ((3, -3),), bare((3, -3))]), (0, "holds", (0, 0)))
+
     def test_a_name_of_a_mark(self):
         for name in (1, 2, 5):
             knot = (((1,), (2,)), ((name, ((1,), (2,))), (4, ((1, 2),))), (), (name, 4))
