@@ -1,6 +1,7 @@
 """Knots: rows of marks joined by new names and clauses; and the knots of parts and plans."""
 
 from mostclauses.counts import choices, how_many, ways
+from mostclauses.marks import others
 
 
 class Net:
@@ -76,9 +77,9 @@ def sums_knot(rows, cap, first):
     clauses = []
     for total in range(1, min(cap, sum(lens)) + 1):
         name = first + total - 1
-        meaning = tuple([_marks_at(rows, counts) for counts in choices(lens, total)])
+        meaning = counted(rows, total)
         names.append((name, meaning))
-        clauses.extend([_others(marks) + (name,) for marks in meaning])
+        clauses.extend(clauses_of_count(meaning, name))
     outs = tuple([name for name, _ in names])
     return (tuple(rows), tuple(names), tuple(clauses), outs)
 
@@ -92,8 +93,7 @@ def net_knot(one, other, cap, first):
 
 def pairs_knot(rows, most):
     """The last knot that bars each choice of counts above MOST."""
-    lens = [len(row) for row in rows]
-    clauses = [_others(_marks_at(rows, counts)) for counts in choices(lens, most + 1)]
+    clauses = [others(marks) for marks in counted(rows, most + 1)]
     return (tuple(rows), (), tuple(clauses), ())
 
 
@@ -113,6 +113,17 @@ def codes_knot(rows, first):
             else:
                 clauses.append((-row[0], -name))
     return (tuple(rows), tuple(names), tuple(clauses), ())
+
+
+def counted(rows, total):
+    """The marks of all choices of counts of rows, of one total; what a name means that says it is reached."""
+    lens = [len(row) for row in rows]
+    return tuple([_marks_at(rows, counts) for counts in choices(lens, total)])
+
+
+def clauses_of_count(meaning, name):
+    """The clauses by which each choice of a count's meaning brings on its name."""
+    return [others(marks) + (name,) for marks in meaning]
 
 
 def knots_of(plan, marks, most, first):
@@ -138,6 +149,27 @@ def sizes(plan, most):
     return (names + digits, clauses + lens.count(2) + len(lens) * digits)
 
 
+def sums_sizes(lens, cap):
+    """How many names and clauses the sums knot of rows of these lens makes."""
+    outs = min(cap, sum(lens))
+    return (outs, sum(ways(lens)[1:outs + 1]))
+
+
+def net_sizes(one, other, cap):
+    """How many names and clauses the net knot of rows of these two lens makes."""
+    if one == 0 or other == 0 or cap == 0:
+        return (0, 0)
+    if one == 1 and other == 1:
+        return _pair_sizes(1, cap)
+    odd_names, odd_clauses = net_sizes(one - one // 2, other - other // 2, cap // 2 + 1)
+    even_names, even_clauses = net_sizes(one // 2, other // 2, cap // 2)
+    evens = one // 2 + other // 2
+    odds = one + other - evens
+    # The odd list's first is an out by itself; its others stand beside the even list's, as long as both have one.
+    names, clauses = _pair_sizes(min(odds - 1, evens, cap // 2), cap - 1)
+    return (odd_names + even_names + names, odd_clauses + even_clauses + clauses)
+
+
 def _part_sizes(part, cap):
     """How long a part's row is, and how many new names and clauses it makes."""
     if not isinstance(part, tuple):
@@ -147,13 +179,17 @@ def _part_sizes(part, cap):
     names = sum([made for _, made, _ in parts])
     clauses = sum([said for _, _, said in parts])
     if part[0] == "net":
-        # A net is small always, so one over other marks is made and counted.
-        between = lens[0] + 1
-        behind = between + lens[1]
-        net = net_knot(tuple(range(1, between)), tuple(range(between, behind)), cap, behind)
-        return (len(net[3]), names + len(net[1]), clauses + len(net[2]))
-    outs = min(cap, sum(lens))
-    return (outs, names + outs, clauses + sum(ways(lens)[1:outs + 1]))
+        made, said = net_sizes(lens[0], lens[1], cap)
+    else:
+        made, said = sums_sizes(lens, cap)
+    return (min(cap, sum(lens)), names + made, clauses + said)
+
+
+def _pair_sizes(pairs, outs):
+    """How many names and clauses so many pairs make by high and low, where so many outs are needed."""
+    # Of the last pair high alone may be needed: a name and a clause less.
+    less = max(0, 2 * pairs - outs)
+    return (2 * pairs - less, 3 * pairs - less)
 
 
 def _cap_of(plan, most):
@@ -166,11 +202,6 @@ def _cap_of(plan, most):
 def _marks_at(rows, counts):
     """The marks of a choice of counts of rows."""
     return tuple([row[count - 1] for row, count in zip(rows, counts) if count > 0])
-
-
-def _others(marks):
-    """The other ones of marks."""
-    return tuple([-mark for mark in marks])
 
 
 def _has_digit(number, place):

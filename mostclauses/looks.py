@@ -3,7 +3,7 @@
 from mostclauses.errors import NoKnot, TooMany
 from mostclauses.follower import Follower
 from mostclauses.marks import is_clause, is_mark
-from mostclauses.settings import meant
+from mostclauses.settings import meant, on_behind
 
 MOST_COUNTS = 256
 
@@ -161,7 +161,7 @@ def _is_up(knot, follower, on, total, most, is_last):
     _, _, _, outs = knot
     if is_last and total <= most:
         return True
-    now = _after(follower, on)
+    now = on_behind(follower, on)
     if is_last:
         return now is None
     return all([out in now for out in outs[:total]])
@@ -179,18 +179,5 @@ def _is_down(knot, follower, on, counts, most, is_last):
         return True
     else:
         puts.append(-outs[total])
-    now = _after(follower, puts)
+    now = on_behind(follower, puts)
     return all([-row[count] in now for row, count in zip(rows, counts) if count < len(row)])
-
-
-def _after(follower, puts):
-    """All that is on by these puts, None where it is broken; behind it the follower is as it was."""
-    for mark in puts:
-        if not follower.is_broken():
-            follower.put(mark)
-    now = None
-    if not follower.is_broken():
-        now = {mark: True for mark in follower.on()}
-    for _ in range(len(follower.puts())):
-        follower.back()
-    return now

@@ -22,3 +22,8 @@ def is_clause(thing):
     if not all([is_mark(mark) for mark in thing]):
         return False
     return len({abs(mark) for mark in thing}) == len(thing)
+
+
+def others(marks):
+    """The other ones of marks."""
+    return tuple([-mark for mark in marks])

@@ -1,11 +1,10 @@
 """At most so many of marks, said by clauses by a plan."""
 
-from mostclauses.errors import NoFresh, NoMarks, NoPlan, TooMany
+from mostclauses.errors import NoMarks, NoPlan
 from mostclauses.knots import knots_of, sizes
 from mostclauses.plans import is_plan, show_plan, size_of
-from mostclauses.settings import are_marks, greatest_name, meant, on_of, rows_to_broken, show_marks, what_follows
-
-MOST_CLAUSES = 3003
+from mostclauses.settings import are_marks, first_new, meant, on_of, refuse_too_many, rows_to_broken
+from mostclauses.settings import show_marks, what_follows
 
 
 class Said:
@@ -16,13 +15,8 @@ class Said:
             raise NoMarks()
         if not _is_plan_for(plan, len(marks), most):
             raise NoPlan()
-        lowest = greatest_name(marks) + 1
-        first = lowest if fresh is None else fresh
-        if first < lowest:
-            raise NoFresh(lowest)
-        many = sizes(plan, most)[1]
-        if many > MOST_CLAUSES:
-            raise TooMany(many)
+        first = first_new(marks, fresh)
+        refuse_too_many(sizes(plan, most)[1])
         self._marks = list(marks)
         self._most = most
         self._plan = plan

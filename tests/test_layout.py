@@ -22,12 +22,20 @@ INTERFACE = {
     "knots.py": ("sums_knot", "net_knot", "pairs_knot", "codes_knot", "sizes"),
     "said.py": ("Said",),
     "looks.py": ("is_knot", "first_wrong"),
+    "plain.py": ("first_unlike", "apart", "are_apart"),
+    "least.py": ("least",),
+    "added.py": ("Added", "gap"),
+    "keeper.py": ("Keeper",),
 }
 
 METHODS = {
     "Follower": ("put", "add", "back", "on", "shown", "puts", "is_broken", "clauses"),
     "Said": (
         "marks", "most", "plan", "clauses", "knots", "names", "kept", "broken", "follows", "__eq__", "__len__", "__str__",
+    ),
+    "Added": ("marks", "most", "clauses", "names", "kept", "broken", "follows", "__eq__", "__len__", "__str__"),
+    "Keeper": (
+        "bound", "wider", "more", "back", "marks", "reach", "most", "puts", "clauses", "names", "kept", "broken", "follows",
     ),
 }
 
