@@ -86,3 +86,41 @@ def all_on(clauses, puts):
                 on.add(left[0])
         if len(on) == before:
             return on
+
+
+def rows_show_broken(clauses, puts, rows):
+    """Whether rows show that it is broken, by [6], gone through one by one."""
+    on = set(puts)
+    for at, row in enumerate(rows):
+        if row < 0 or row >= len(clauses):
+            return False
+        left = [mark for mark in clauses[row] if -mark not in on]
+        if at == len(rows) - 1:
+            return left == []
+        if len(left) != 1 or left[0] in on:
+            return False
+        on.add(left[0])
+    return False
+
+
+def is_whole(thing):
+    return type(thing) is int
+
+
+def paper_holds(clauses, puts, thing):
+    """Whether a thing is a paper, by [31], by a walk of its own."""
+    waiting = [(list(puts), thing)]
+    while waiting:
+        here, paper = waiting.pop()
+        if type(paper) is not tuple:
+            return False
+        if all(is_whole(one) for one in paper):
+            if not rows_show_broken(clauses, here, paper):
+                return False
+            continue
+        if len(paper) != 3 or not is_whole(paper[0]) or not 1 <= paper[0] <= 10 ** 12:
+            return False
+        if {paper[0], -paper[0]} & set(here):
+            return False
+        waiting += [(here + [paper[0]], paper[1]), (here + [-paper[0]], paper[2])]
+    return True

@@ -263,6 +263,7 @@ class TestMade(Telling):
         marks = [1, 2, 3]
         keeper = Keeper(marks, 2, ("sums", 1, 1, 1))
         marks.append(9)
+        self.assertEqual(keeper.marks(), [1, 2, 3])
         more = [20, 21]
         for deed in (lambda: keeper.bound(1), lambda: keeper.more(more, ("sums", 1, 1)), lambda: keeper.wider(4)):
             before = everything(keeper)
@@ -271,6 +272,7 @@ class TestMade(Telling):
             told.clear()
             self.assertTrue(keeper.clauses()[len(before[4]):] == kept or keeper.puts() == kept)
         more.clear()
+        self.assertEqual(keeper.marks(), [1, 2, 3, 20, 21])
         asks = (keeper.marks, keeper.puts, keeper.clauses, keeper.names, lambda: keeper.kept([1]), lambda: keeper.follows([1]),
                 lambda: keeper.broken([1, 21]))
         for ask in asks:

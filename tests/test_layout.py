@@ -26,6 +26,10 @@ INTERFACE = {
     "least.py": ("least",),
     "added.py": ("Added", "gap"),
     "keeper.py": ("Keeper",),
+    "between.py": ("Between",),
+    "papers.py": ("is_paper",),
+    "desk.py": ("Desk",),
+    "texts.py": ("show_clauses", "read_clauses", "show_desk", "read_desk"),
 }
 
 METHODS = {
@@ -36,6 +40,10 @@ METHODS = {
     "Added": ("marks", "most", "clauses", "names", "kept", "broken", "follows", "__eq__", "__len__", "__str__"),
     "Keeper": (
         "bound", "wider", "more", "back", "marks", "reach", "most", "puts", "clauses", "names", "kept", "broken", "follows",
+    ),
+    "Between": ("marks", "least", "most", "clauses", "names", "kept", "broken", "follows"),
+    "Desk": (
+        "rule", "drop", "wish", "unwish", "back", "rules", "wishes", "clauses", "follows", "why", "find", "tally", "none",
     ),
 }
 
